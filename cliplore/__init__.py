@@ -1,0 +1,1 @@
+"""Cliplore: the rules by which words are clipped."""
