@@ -57,3 +57,8 @@ class Alphabet:
 
     def _can_be_listed(self, signs):
         return signs != "" and self.is_word(signs) and signs == _in_order(signs) and not _has_twice(signs)
+
+
+def copy_of(alphabet):
+    """An equal alphabet, so that a later change of the caller's object does not reach what keeps this one."""
+    return Alphabet(alphabet.letters, alphabet.vowels)

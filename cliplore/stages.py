@@ -4,7 +4,7 @@ The states of all stages are integers, strings or tuples of these, so nothing ca
 """
 
 from cliplore.errors import BadStage, BadWord
-from cliplore.signs import Alphabet
+from cliplore.signs import Alphabet, copy_of
 
 _MOST_AFTER = 3
 
@@ -13,8 +13,7 @@ class Stage:
     """The base class of the stages. The classes below it define text, start, step and end."""
 
     def __init__(self, alphabet):
-        # A copy, so that a later change of the caller's object does not reach the stage.
-        self.alphabet = Alphabet(alphabet.letters, alphabet.vowels)
+        self.alphabet = copy_of(alphabet)
 
     def __call__(self, word):
         if not self.alphabet.is_word(word):

@@ -2,6 +2,10 @@
 
 import itertools
 
+from cliplore.stages import Add, Drop, LastDrop, Once, Write
+
+NAMES = ("all", "letters", "vowels", "consonants", "joints", "[-]", "[a]", "[b]", "[-a]", "[-b]", "[ab]", "[-ab]")
+
 
 def numbers_of(word, each):
     found = []
@@ -34,3 +38,19 @@ def words(signs, most):
     for size in range(most + 1):
         for word in itertools.product(signs, repeat=size):
             yield "".join(word)
+
+
+def every_stage(alphabet):
+    """Each stage that there is, with what a whole word becomes by points 6 to 10."""
+    for name in NAMES:
+        signs = alphabet.members(name)
+        for after, each in itertools.product(range(4), (False, True)):
+            yield (Drop(alphabet, name, after=after, each=each),
+                   lambda word, s=signs, a=after, e=each: dropped(word, s, a, e, False))
+            yield (LastDrop(alphabet, name, after=after, each=each),
+                   lambda word, s=signs, a=after, e=each: dropped(word, s, a, e, True))
+        for sign in alphabet.signs:
+            yield Write(alphabet, sign, name), lambda word, x=sign, s=signs: written(word, x, s)
+        yield Once(alphabet, name), lambda word, s=signs: once(word, s)
+    for sign in alphabet.signs:
+        yield Add(alphabet, sign), lambda word, x=sign: word + x

@@ -9,26 +9,10 @@ from cliplore.errors import BadStage, BadWord
 from cliplore.signs import Alphabet
 from cliplore.stages import Add, Drop, LastDrop, Once, Stage, Write
 from tests import plain_stages
+from tests.plain_stages import NAMES, every_stage
 
 ALPHABET = Alphabet("ba", "a")
-NAMES = ("all", "letters", "vowels", "consonants", "joints", "[-]", "[a]", "[b]", "[-a]", "[-b]", "[ab]", "[-ab]")
 WORDS = list(plain_stages.words("-ab", 6))
-
-
-def every_stage(alphabet):
-    """Each stage that there is, with what a whole word becomes by points 6 to 10."""
-    for name in NAMES:
-        signs = alphabet.members(name)
-        for after, each in itertools.product(range(4), (False, True)):
-            yield (Drop(alphabet, name, after=after, each=each),
-                   lambda word, s=signs, a=after, e=each: plain_stages.dropped(word, s, a, e, False))
-            yield (LastDrop(alphabet, name, after=after, each=each),
-                   lambda word, s=signs, a=after, e=each: plain_stages.dropped(word, s, a, e, True))
-        for sign in alphabet.signs:
-            yield Write(alphabet, sign, name), lambda word, x=sign, s=signs: plain_stages.written(word, x, s)
-        yield Once(alphabet, name), lambda word, s=signs: plain_stages.once(word, s)
-    for sign in alphabet.signs:
-        yield Add(alphabet, sign), lambda word, x=sign: word + x
 
 
 class ResultTest(unittest.TestCase):
