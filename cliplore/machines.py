@@ -47,7 +47,7 @@ class Machine:
         """The place that the word leads to from this place, and what its steps write, or None."""
         texts = []
         for sign in word:
-            step = self.rows[place][self.alphabet.signs.index(sign)]
+            step = self.rows[place][self.alphabet.signs.find(sign)]
             if step is None:
                 return None
             place, text = step

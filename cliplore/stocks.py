@@ -10,9 +10,9 @@ class Stock:
     """The set of words whose steps through a table, from place 0, end at a good place."""
 
     def __init__(self, alphabet, rows, goods):
-        _check_table(alphabet, rows, goods)
+        _check_rows(alphabet, rows, goods)
         self.alphabet = copy_of(alphabet)
-        self.rows, self.goods = _least(rows, goods)
+        self.rows, self.goods = _least_table(rows, goods)
 
     @classmethod
     def every(cls, alphabet):
@@ -29,7 +29,7 @@ class Stock:
                 raise BadWord(word)
             place = 0
             for sign in word:
-                rank = alphabet.signs.index(sign)
+                rank = alphabet.signs.find(sign)
                 if rows[place][rank] == -1:
                     rows[place][rank] = len(rows)
                     rows.append([-1 for _ in alphabet.signs])
@@ -101,9 +101,11 @@ class Stock:
 
     def first_word(self):
         """The first word in shortlex order, or None."""
-        if not any(self.goods):
+        # The places are numbered in the order of the first words that lead to them.
+        places = [place for place, good in enumerate(self.goods) if good]
+        if len(places) == 0:
             return None
-        return first_words(self.rows, self.alphabet.signs)[self.goods.index(True)]
+        return first_words(self.rows, self.alphabet.signs)[places[0]]
 
     def lead(self, word):
         """The place that the word leads to, or -1."""
@@ -111,7 +113,7 @@ class Stock:
             raise BadWord(word)
         place = 0
         for sign in word:
-            place = self.rows[place][self.alphabet.signs.index(sign)]
+            place = self.rows[place][self.alphabet.signs.find(sign)]
             if place == -1:
                 return -1
         return place
@@ -126,7 +128,7 @@ def apart(first, second):
     return None
 
 
-def _check_table(alphabet, rows, goods):
+def _check_rows(alphabet, rows, goods):
     if len(rows) == 0 or len(goods) != len(rows):
         raise BadTable(-1)
     for place, row in enumerate(rows):
@@ -134,7 +136,7 @@ def _check_table(alphabet, rows, goods):
             raise BadTable(place)
 
 
-def _least(rows, goods):
+def _least_table(rows, goods):
     """The least table that has the same words."""
     places = useful(rows, goods)
     if len(places) == 0:

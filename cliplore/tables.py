@@ -2,14 +2,18 @@
 
 A table is a list of rows, one for each place; a row has one step for each sign, in ascending order of the
 signs. A word leads from place 0 by the steps of its signs. Labels say for each place what counts there besides
-its steps. The operators of stocks use these functions, so each one changes only lists and dicts of its own.
+its steps. The operators of stocks use these functions, so each one changes only lists and dicts under its own plain
+local names, and nothing that is an item of them.
 """
 
 
-def reached(rows):
-    """The places that some word leads to, in the order of the first words, in shortlex order."""
-    seen = {0: True}
-    places = [0]
+def reached(rows, begin=0):
+    """The places that some word leads to, in the order of the first words, in shortlex order.
+
+    The words begin at place 0, or at another one.
+    """
+    seen = {begin: True}
+    places = [begin]
     at = 0
     while at < len(places):
         place = places[at]
@@ -21,11 +25,11 @@ def reached(rows):
     return places
 
 
-def first_words(rows, signs):
-    """For each place the first word, in shortlex order, that leads to it, or None."""
+def first_words(rows, signs, begin=0):
+    """For each place the first word, in shortlex order, that leads to it, or None. See reached."""
     found = [None for _ in rows]
-    found[0] = ""
-    for place in reached(rows):
+    found[begin] = ""
+    for place in reached(rows, begin):
         for sign, step in zip(signs, rows[place]):
             if step != -1 and found[step] is None:
                 found[step] = found[place] + sign
@@ -40,20 +44,41 @@ def useful(rows, goods):
 
 def _leading(rows, goods):
     """For each place whether a good place is reached from it."""
-    before = [[] for _ in rows]
-    for place, row in enumerate(rows):
-        for step in row:
-            if step != -1:
-                before[step].append(place)
+    width = len(rows[0])
+    sources = _grouped([step for row in rows for step in row], len(rows))
     leads = [bool(good) for good in goods]
     places = [place for place, good in enumerate(goods) if good]
     while len(places) > 0:
         place = places.pop()
-        for source in before[place]:
+        for index in sources[place]:
+            source = index // width
             if not leads[source]:
                 leads[source] = True
                 places.append(source)
     return leads
+
+
+def _grouped(numbers, size):
+    """For each number from 0 below the size, the indexes at which it stands. Elsewhere stands -1."""
+    # For each number its last index so far, and for each index the one before it with the same number.
+    last = [-1 for _ in range(size)]
+    before = []
+    for index, number in enumerate(numbers):
+        if number == -1:
+            before.append(-1)
+        else:
+            before.append(last[number])
+            last[number] = index
+    return [_traced(before, index) for index in last]
+
+
+def _traced(before, index):
+    """The indexes that a chain goes through, beginning with this one."""
+    found = []
+    while index != -1:
+        found.append(index)
+        index = before[index]
+    return found
 
 
 def cut(rows, places):
@@ -90,29 +115,31 @@ def _classes(rows, labels):
     two parts of a class only the smaller one must be looked at again, so few places are looked at often.
     """
     classes = list(_numbers(labels))
-    members = [{} for _ in range(max(classes) + 1)]
-    for place, number in enumerate(classes):
-        members[number][place] = True
-    sources = _sources(rows)
+    # A list of members may name places that have left the class since, but the sizes count those in it only.
+    members = list(_grouped(classes, max(classes) + 1))
+    sizes = [len(group) for group in members]
+    by_signs = [_grouped([row[rank] for row in rows], len(rows)) for rank in range(len(rows[0]))]
     waiting = list(range(len(members)))
     waits = [True for _ in members]
     while len(waiting) > 0:
         target = waiting.pop()
         waits[target] = False
-        # A list of its own: the class that is looked at may itself be split.
-        places = list(members[target])
-        for by_place in sources:
-            hits = _hits(by_place, places, classes)
-            for number, found in hits.items():
-                if len(found) < len(members[number]):
+        # These places are looked at for every sign, even if their class is itself split meanwhile.
+        places = [place for place in members[target] if classes[place] == target]
+        members[target] = places
+        for sources in by_signs:
+            groups = _hits(sources, places, classes)
+            for found in groups:
+                number = classes[found[0]]
+                if len(found) < sizes[number]:
                     part = len(members)
-                    members.append({})
+                    members.append(found)
+                    sizes.append(len(found))
+                    sizes[number] = sizes[number] - len(found)
                     for place in found:
-                        del members[number][place]
-                        members[part][place] = True
                         classes[place] = part
                     # If the whole class waits, its rest goes on waiting, so that only the part is to be added.
-                    again = part if waits[number] or len(found) <= len(members[number]) else number
+                    again = part if waits[number] or len(found) <= sizes[number] else number
                     waiting.append(again)
                     waits.append(False)
                     waits[again] = True
@@ -130,26 +157,11 @@ def _numbers(labels):
     return numbers
 
 
-def _sources(rows):
-    """For each sign, and then for each place, the places from which the sign leads there."""
-    sources = [[[] for _ in rows] for _ in rows[0]]
-    for place, row in enumerate(rows):
-        for rank, step in enumerate(row):
-            if step != -1:
-                sources[rank][step].append(place)
-    return sources
-
-
-def _hits(by_place, places, classes):
-    """The sources of these places, in lists by their classes."""
-    hits = {}
-    for place in places:
-        for source in by_place[place]:
-            number = classes[source]
-            if number not in hits:
-                hits[number] = []
-            hits[number].append(source)
-    return hits
+def _hits(sources, places, classes):
+    """The sources of these places, in one list for each of their classes."""
+    hits = [source for place in places for source in sources[place]]
+    numbers = _numbers([classes[hit] for hit in hits])
+    return [[hits[index] for index in group] for group in _grouped(numbers, max(numbers, default=-1) + 1)]
 
 
 def paired(first, second):
@@ -164,7 +176,7 @@ def paired(first, second):
     while at < len(pairs):
         one, two = pairs[at]
         row = []
-        for pair in zip(_steps(first, one), _steps(second, two)):
+        for pair in zip(_row_of(first, one), _row_of(second, two)):
             if pair not in numbers:
                 numbers[pair] = len(pairs)
                 pairs.append(pair)
@@ -174,5 +186,5 @@ def paired(first, second):
     return rows, pairs
 
 
-def _steps(rows, place):
+def _row_of(rows, place):
     return [-1 for _ in rows[0]] if place == -1 else rows[place]
