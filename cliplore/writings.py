@@ -10,13 +10,13 @@ from cliplore.tables import merged, useful
 
 def least_writing(first, rows, ends):
     """The least form of the table, as first, rows and ends."""
-    steps = [_next_places(row) for row in rows]
+    steps = [next_places(row) for row in rows]
     places = useful(steps, [end is not None for end in ends])
     if len(places) == 0:
         return nothing_written(len(rows[0]))
     first, rows, ends = _written_early(first, _cut(rows, places), [ends[place] for place in places])
     labels = [(ends[place], tuple(_texts(row))) for place, row in enumerate(rows)]
-    steps, picked = merged([_next_places(row) for row in rows], labels)
+    steps, picked = merged([next_places(row) for row in rows], labels)
     least = [_steps(row, _texts(rows[place])) for row, place in zip(steps, picked)]
     return first, least, [ends[place] for place in picked]
 
@@ -26,7 +26,8 @@ def nothing_written(width):
     return "", [[None for _ in range(width)]], [None]
 
 
-def _next_places(row):
+def next_places(row):
+    """The places to which the steps of the row lead, or -1."""
     return [-1 if step is None else step[0] for step in row]
 
 
@@ -41,7 +42,7 @@ def _steps(places, texts):
 def _cut(rows, places):
     """The rows of these places only, numbered in the order given. Steps to other places become None."""
     numbers = {place: number for number, place in enumerate(places)}
-    return [_steps([numbers.get(step, -1) for step in _next_places(rows[place])], _texts(rows[place]))
+    return [_steps([numbers.get(step, -1) for step in next_places(rows[place])], _texts(rows[place]))
             for place in places]
 
 
@@ -107,3 +108,9 @@ def common_beginning(texts):
     while size < len(low) and low[size] == high[size]:
         size += 1
     return low[:size]
+
+
+def reduced(left, right):
+    """What remains of two texts without their longest common beginning, as a pair."""
+    size = len(common_beginning([left, right]))
+    return left[size:], right[size:]
