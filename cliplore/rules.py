@@ -30,7 +30,7 @@ class Rule:
             # Before the piece is read: a fifth piece is wrong in this way, whatever it says.
             if number > cls.MOST:
                 raise BadRule(number, "count")
-            stages.append(_read_piece(alphabet, number, piece))
+            stages.append(read_piece(alphabet, number, piece))
         return cls(alphabet, *stages)
 
     def __eq__(self, other):
@@ -99,7 +99,8 @@ def _feed(stage, state, text):
     return state, "".join(written)
 
 
-def _read_piece(alphabet, number, piece):
+def read_piece(alphabet, number, piece):
+    """The stage with this written form, which is the piece of this number."""
     try:
         return read_stage(alphabet, piece)
     except BadStage as error:

@@ -8,7 +8,8 @@ import pathlib
 import unittest
 
 FOLDER = pathlib.Path(__file__).resolve().parent.parent / "cliplore"
-PURE = {"__eq__", "__str__", "__repr__", "__len__", "__bool__", "__contains__", "__add__", "__and__", "__or__", "__sub__"}
+PURE = {"__eq__", "__str__", "__repr__", "__len__", "__bool__", "__contains__", "__add__", "__and__", "__or__",
+        "__sub__"}
 CHANGING = {"append", "clear", "extend", "insert", "pop", "remove", "reverse", "setdefault", "update", "sort", "add",
             "discard"}
 HEAPS = {"heappush", "heappop", "heapify", "heapreplace", "heappushpop"}
@@ -120,7 +121,7 @@ class OperatorsTest(unittest.TestCase):
 
     def test_the_operators_are_found(self):
         names = {function.name for function in Package().run()}
-        self.assertLessEqual({"__and__", "__contains__", "__add__", "merged", "lead"}, names)
+        self.assertLessEqual({"__and__", "__contains__", "__add__", "merged", "lead", "limit", "many"}, names)
 
     def test_faults_are_found(self):
         package = Package()
